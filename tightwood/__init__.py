@@ -1,0 +1,1 @@
+"""Tightwood: woods kept as rows of bits, asked without walking."""

@@ -1,0 +1,87 @@
+"""Counts of a row of bits, by a table: no question walks further than one block."""
+
+from tightwood.checks import check_bit, check_place
+from tightwood.words import FULL_WORD, WORD_BITS, nth_one, ones_in
+
+BLOCK_WORDS = 8
+BLOCK_BITS = 256
+
+
+def table_of_words(words):
+    table = [0]
+    for low in range(0, len(words), BLOCK_WORDS):
+        table.append(table[-1] + sum([ones_in(word) for word in words[low:low + BLOCK_WORDS]]))
+    return tuple(table)
+
+
+class Counts:
+    """A row of bits with its table of counts."""
+
+    def __init__(self, bits):
+        self.length = bits.size()
+        self.kept_words = bits.words()
+        self.kept_table = table_of_words(self.kept_words)
+
+    def table(self):
+        return self.kept_table
+
+    def ahead(self, bit, place):
+        check_bit(bit)
+        check_place(place, self.length)
+        ones = self.ones_ahead(place)
+        return ones if bit == 1 else place - ones
+
+    def place_of(self, bit, nth):
+        check_bit(bit)
+        check_place(nth, self.many_like(bit) - 1)
+        block = self.block_with(bit, nth)
+        return self.place_from(bit, block * BLOCK_WORDS, nth - self.ahead_of_block(bit, block))
+
+    def next_from(self, bit, place):
+        nth = self.ahead(bit, place)
+        return self.place_of(bit, nth) if nth < self.many_like(bit) else None
+
+    def last_ahead(self, bit, place):
+        many = self.ahead(bit, place)
+        return self.place_of(bit, many - 1) if many > 0 else None
+
+    def ones_ahead(self, place):
+        number = place // WORD_BITS
+        block = number // BLOCK_WORDS
+        ones = self.kept_table[block]
+        for word in self.kept_words[block * BLOCK_WORDS:number]:
+            ones += ones_in(word)
+        rest = place % WORD_BITS
+        # Without a rest the word may be one behind the last.
+        if rest > 0:
+            ones += ones_in(self.kept_words[number] & ((1 << rest) - 1))
+        return ones
+
+    def ahead_of_block(self, bit, block):
+        ones = self.kept_table[block]
+        # The last block may be short, so what is behind it begins at the size.
+        return ones if bit == 1 else min(block * BLOCK_BITS, self.length) - ones
+
+    def many_like(self, bit):
+        return self.ahead_of_block(bit, len(self.kept_table) - 1)
+
+    def block_with(self, bit, nth):
+        low = 0
+        high = len(self.kept_table) - 1
+        while high - low > 1:
+            middle = (low + high) // 2
+            if self.ahead_of_block(bit, middle) <= nth:
+                low = middle
+            else:
+                high = middle
+        return low
+
+    def place_from(self, bit, number, nth):
+        # What is left over in the last word looks like 0 bits, but stands behind all that are asked for.
+        flip = 0 if bit == 1 else FULL_WORD
+        inside = nth_one(self.kept_words[number] ^ flip, nth)
+        while inside is None:
+            nth -= ones_in(self.kept_words[number] ^ flip)
+            number += 1
+            inside = nth_one(self.kept_words[number] ^ flip, nth)
+        return number * WORD_BITS + inside
