@@ -26,3 +26,12 @@ def rows_of(size):
         rows.append("0" * (size - 1) + "1")
         rows.append("1" * (size - 1) + "0")
     return rows
+
+
+def no_knots(many):
+    """Nothing of these is a knot of a wood of so many."""
+    return NO_WHOLE_NUMBERS + FAR_OUT + [many, many + 1, many + 4000]
+
+
+# Nothing of these is a whole number from 0 on.
+NO_NUMBERS = NO_WHOLE_NUMBERS + [-1, -2, -(10 ** 5000)]

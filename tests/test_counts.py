@@ -2,7 +2,7 @@ import unittest
 
 from tests.samples import FAR_OUT, NO_WHOLE_NUMBERS, mixed_row, rows_of
 from tightwood.bits import Bits
-from tightwood.counts import Counts
+from tightwood.counts import Counts, begins_of
 from tightwood.errors import NoBits, NoPlace
 
 SIZES = [0, 1, 31, 32, 33, 255, 256, 257, 511, 512, 513, 800]
@@ -168,6 +168,15 @@ class TestRefused(unittest.TestCase):
                     ask(bit, place)
         self.assertEqual(counts.table(), table)
         self.assertEqual([counts.place_of(1, nth) for nth in range(text.count("1"))], places_of(text, 1))
+
+
+class TestBeginsOf(unittest.TestCase):
+    def test_a_one_for_each_thing_that_is_another_one(self):
+        for things, begins in [([], []), ([0], [0]), ([0, 0], [0]), ([0, 0, 1, 2, 2], [0, 2, 3]),
+                               (["a", "b", "b", "a"], [0, 1, 3])]:
+            counts = begins_of(things)
+            self.assertEqual(counts.table()[-1], len(begins))
+            self.assertEqual([counts.place_of(1, nth) for nth in range(len(begins))], begins)
 
 
 if __name__ == "__main__":

@@ -26,6 +26,11 @@ BARRED_WORDS = re.compile(r"\b(type|typing|typing_extensions|enum|Enum|IntEnum|S
                           r"|ABCMeta|namedtuple|NamedTuple|TypedDict|TYPE_CHECKING|abstractmethod)\b"
                           r"|dataclass|overload|contextmanager")
 
+WALKED = "zip enumerate reversed range".split()
+WALKERS = "list tuple dict sorted sum any all enumerate zip".split()
+KEYWORDS = {"sorted": ["key", "reverse"], "min": ["key", "default"], "max": ["key", "default"], "sum": ["start"],
+            "enumerate": ["start"], "zip": ["strict"]}
+
 
 def nodes_of(tree, kind):
     return [node for node in ast.walk(tree) if isinstance(node, kind)]
@@ -45,6 +50,24 @@ def methods_of(tree):
 
 def values_of(tree):
     return [node.attr for node in nodes_of(tree, ast.Attribute) if isinstance(node.ctx, ast.Store)]
+
+
+def parents_of(tree):
+    return {child: node for node in ast.walk(tree) for child in ast.iter_child_nodes(node)}
+
+
+def called_name(node):
+    return node.func.id if isinstance(node, ast.Call) and isinstance(node.func, ast.Name) else None
+
+
+def is_walked_at_once(node, parent):
+    if isinstance(parent, (ast.For, ast.comprehension)):
+        return parent.iter is node
+    if called_name(parent) in WALKERS:
+        return parent.args[0] is node
+    if called_name(parent) in ("min", "max"):
+        return len(parent.args) == 1 and parent.keywords == []
+    return isinstance(parent, ast.Call) and isinstance(parent.func, ast.Attribute) and parent.func.attr == "join"
 
 
 class TestLanguage(unittest.TestCase):
@@ -165,6 +188,38 @@ class TestLanguage(unittest.TestCase):
                 if isinstance(op, (ast.Is, ast.IsNot)):
                     self.assertIsInstance(side, ast.Constant, (name, node.lineno))
                     self.assertIn(side.value, (None, True, False), (name, node.lineno))
+
+    def test_local_names_are_no_imports_and_no_classes(self):
+        for name, tree in self.trees.items():
+            taken = [one.name for node in nodes_of(tree, ast.ImportFrom) for one in node.names]
+            taken += [node.name for node in nodes_of(tree, ast.ClassDef)]
+            for holder in nodes_of(tree, (ast.FunctionDef, ast.Lambda, ast.ListComp)):
+                bound = [node.arg for node in nodes_of(holder, ast.arg)]
+                bound += [node.id for node in nodes_of(holder, ast.Name) if isinstance(node.ctx, ast.Store)]
+                self.assertEqual(sorted(set(bound) & set(taken)), [], name)
+
+    def test_walked_at_once(self):
+        for name, tree in self.trees.items():
+            parents = parents_of(tree)
+            for node in nodes_of(tree, ast.Call):
+                by_method = isinstance(node.func, ast.Attribute) and node.func.attr in ("items", "keys", "values")
+                if called_name(node) in WALKED or by_method:
+                    self.assertTrue(is_walked_at_once(node, parents[node]), (name, node.lineno))
+                if called_name(node) in ("set", "frozenset"):
+                    beside = isinstance(parents[node], (ast.Compare, ast.BinOp))
+                    self.assertTrue(beside or called_name(parents[node]) in ("sorted", "len"), (name, node.lineno))
+
+    def test_keywords_at_calls(self):
+        for name, node in self.each_node(ast.Call):
+            used = [keyword.arg for keyword in node.keywords]
+            if called_name(node) in OWN_NAMES:
+                self.assertLessEqual(set(used), set(KEYWORDS.get(called_name(node), [])), (name, node.lineno))
+            if isinstance(node.func, ast.Attribute) and node.func.attr in OWN_METHODS:
+                self.assertEqual(used, [], (name, node.lineno))
+
+    def test_one_thing_is_given_at_a_time(self):
+        for name, node in self.each_node(ast.Assign):
+            self.assertIsInstance(node.targets[0], (ast.Name, ast.Attribute, ast.Subscript), (name, node.lineno))
 
     def test_errors_taken(self):
         for name, node in self.each_node(ast.ExceptHandler):

@@ -1,5 +1,6 @@
 """Counts of a row of bits, by a table: no question walks further than one block."""
 
+from tightwood.bits import Bits
 from tightwood.checks import check_bit, check_place
 from tightwood.words import FULL_WORD, WORD_BITS, nth_one, ones_in
 
@@ -85,3 +86,9 @@ class Counts:
             number += 1
             inside = nth_one(self.kept_words[number] ^ flip, nth)
         return number * WORD_BITS + inside
+
+
+def begins_of(things):
+    """Counts of a row with a 1 for each of the things that is another one than that ahead of it."""
+    signs = ["1" if own != ahead else "0" for ahead, own in zip([None] + things, things)]
+    return Counts(Bits("".join(signs)))
