@@ -20,13 +20,12 @@ def small_woods(most=6):
 
 def plain_elders(row):
     elders = []
-    path = [-1]
-    for sign in row:
-        if sign == "1":
-            elders.append(path[-1])
-            path.append(len(elders) - 1)
-        else:
-            path.pop()
+    # The last knot so far of each depth; what opens at a height is beneath the last one of a depth less.
+    latest = {-1: -1}
+    for place, height in enumerate(plain_heights(row)[:-1]):
+        if row[place] == "1":
+            latest[height] = len(elders)
+            elders.append(latest[height - 1])
     return elders
 
 
