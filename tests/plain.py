@@ -145,3 +145,25 @@ class PlainWood:
 
     def counted_row(self, order):
         return "".join(["1" * many + "0" for many in [len(self.tops)] + [len(self.children[k]) for k in order]])
+
+
+def plain_cut(elders, k):
+    """What is taken out with the knot, and what is left, both as elders."""
+    behind = k + PlainWood(elders).beneath[k] + 1
+    taken = [-1] + [elder - k for elder in elders[k + 1:behind]]
+    return taken, elders[:k] + [elder if elder < k else elder - len(taken) for elder in elders[behind:]]
+
+
+def graft_knot(elders, k, place):
+    """The number that the first knot gets which is grafted there."""
+    plain = PlainWood(elders)
+    children = plain.tops if k is None else plain.children[k]
+    if place < len(children):
+        return children[place]
+    return len(elders) if k is None else k + plain.beneath[k] + 1
+
+
+def plain_graft(elders, k, place, other):
+    first = graft_knot(elders, k, place)
+    grafted = [first + elder if elder != -1 else (-1 if k is None else k) for elder in other]
+    return elders[:first] + grafted + [elder if elder < first else elder + len(other) for elder in elders[first:]]

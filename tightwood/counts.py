@@ -8,11 +8,28 @@ BLOCK_WORDS = 8
 BLOCK_BITS = 256
 
 
+def first_that(low, high, holds):
+    """The first number from low on that holds, where all behind it hold, too; high where none ahead of it does."""
+    while low < high:
+        middle = (low + high) // 2
+        if holds(middle):
+            high = middle
+        else:
+            low = middle + 1
+    return low
+
+
+def running_sums(numbers):
+    """How much there is ahead of each number, and behind the last one."""
+    sums = [0]
+    for number in numbers:
+        sums.append(sums[-1] + number)
+    return sums
+
+
 def table_of_words(words):
-    table = [0]
-    for low in range(0, len(words), BLOCK_WORDS):
-        table.append(table[-1] + sum([ones_in(word) for word in words[low:low + BLOCK_WORDS]]))
-    return tuple(table)
+    blocks = [words[low:low + BLOCK_WORDS] for low in range(0, len(words), BLOCK_WORDS)]
+    return tuple(running_sums([sum([ones_in(word) for word in block]) for block in blocks]))
 
 
 class Counts:
@@ -67,15 +84,7 @@ class Counts:
         return self.ahead_of_block(bit, len(self.kept_table) - 1)
 
     def block_with(self, bit, nth):
-        low = 0
-        high = len(self.kept_table) - 1
-        while high - low > 1:
-            middle = (low + high) // 2
-            if self.ahead_of_block(bit, middle) <= nth:
-                low = middle
-            else:
-                high = middle
-        return low
+        return first_that(0, len(self.kept_table) - 2, lambda block: self.ahead_of_block(bit, block + 1) > nth)
 
     def place_from(self, bit, number, nth):
         # What is left over in the last word looks like 0 bits, but stands behind all that are asked for.

@@ -1,7 +1,7 @@
 """Names on the knots of a wood by openings."""
 
 from tightwood.checks import check_knot
-from tightwood.counts import begins_of
+from tightwood.counts import begins_of, first_that
 from tightwood.errors import NoFit, NoName
 from tightwood.orders import Shortcuts
 
@@ -125,12 +125,4 @@ class Named:
     def first_from(self, k, name):
         """The first place of the name's span with a knot that is k or behind it; the span's end where there is none."""
         span = self.span_of(name)
-        low = span[0]
-        high = span[1]
-        while low < high:
-            middle = (low + high) // 2
-            if self.places.there(middle) < k:
-                low = middle + 1
-            else:
-                high = middle
-        return low
+        return first_that(span[0], span[1], lambda place: self.places.there(place) >= k)
