@@ -147,6 +147,12 @@ class PlainWood:
         return "".join(["1" * many + "0" for many in [len(self.tops)] + [len(self.children[k]) for k in order]])
 
 
+def plain_row(elders):
+    """The row by opening: behind a knot's opening close all that the next knot is not beneath."""
+    depths = PlainWood(elders).depths
+    return "".join(["1" + "0" * (own + 1 - after) for own, after in zip(depths, depths[1:] + [0])])
+
+
 def plain_cut(elders, k):
     """What is taken out with the knot, and what is left, both as elders."""
     behind = k + PlainWood(elders).beneath[k] + 1

@@ -56,6 +56,18 @@ def parents_of(tree):
     return {child: node for node in ast.walk(tree) for child in ast.iter_child_nodes(node)}
 
 
+def is_plain(node, known):
+    """Whether a value may stand at a file's top: plain ones, functions defined above, lists, tuples, dicts of them."""
+    if isinstance(node, ast.Name):
+        return node.id in known
+    if not isinstance(node, (ast.List, ast.Tuple, ast.Dict)):
+        return isinstance(node, ast.Constant) or isinstance(ast.literal_eval(node), int)
+    parts = node.keys + node.values if isinstance(node, ast.Dict) else node.elts
+    if not isinstance(node, ast.Tuple) and any(isinstance(part, (ast.List, ast.Dict)) for part in parts):
+        return False
+    return all(is_plain(part, known) for part in parts)
+
+
 def called_name(node):
     return node.func.id if isinstance(node, ast.Call) and isinstance(node.func, ast.Name) else None
 
@@ -121,7 +133,9 @@ class TestLanguage(unittest.TestCase):
             for node in tree.body[1 if ast.get_docstring(tree) else 0:]:
                 self.assertIsInstance(node, (ast.ImportFrom, ast.FunctionDef, ast.ClassDef, ast.Assign), name)
                 if isinstance(node, ast.Assign):
-                    ast.literal_eval(node.value)
+                    above = [part.name for part in tree.body
+                             if isinstance(part, ast.FunctionDef) and part.lineno < node.lineno]
+                    self.assertTrue(is_plain(node.value, above), (name, node.lineno))
 
     def test_statements_and_expressions(self):
         for name, node in self.each_node(ast.stmt):

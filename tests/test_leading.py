@@ -2,7 +2,7 @@ import itertools
 import unittest
 
 from tests.plain import (PlainWood, all_tops, all_woods, brush, chain, comb, large_woods, mixed_wood, plain_heights,
-                         small_woods)
+                         plain_row, small_woods)
 from tightwood.errors import NoWood
 from tightwood.leading import (counts_to_levels, counts_to_open, levels_to_counts, levels_to_open, open_to_counts,
                                open_to_levels)
@@ -10,14 +10,8 @@ from tightwood.leading import (counts_to_levels, counts_to_open, levels_to_count
 FROM_OPEN = (open_to_levels, open_to_counts)
 FROM_LEVELS = (levels_to_open, levels_to_counts)
 FROM_COUNTS = (counts_to_open, counts_to_levels)
-NO_TEXTS = [None, 0, 1, 10, 100, True, False, [], ["1", "0"], ("1", "0"), {}, b"10", b"", 1.0, set(), object(), 10 ** 5000]
-
-
-def plain_row(elders):
-    """The row by opening: each knot opens behind the closings of those that are not above it."""
-    depths = PlainWood(elders).depths
-    signs = ["1" + "0" * (own + 1 - after) for own, after in zip(depths, depths[1:] + [0])]
-    return "".join(signs)
+NO_TEXTS = [None, 0, 1, 10, 100, True, False, [], ["1", "0"], ("1", "0"), {}, b"10", b"", 1.0, set(), object(),
+            10 ** 5000]
 
 
 def plain_rows(elders):

@@ -126,7 +126,8 @@ class TestPacked(RefusedCase):
             for text in wrong:
                 with self.assertRaises(NoBits):
                     unpacked(n, text)
-            for thing in [None, 0, 1, True, [], list(right), tuple(right), right.encode(), {}, 1.0, object(), 10 ** 5000]:
+            for thing in [None, 0, 1, True, [], list(right), tuple(right), right.encode(), {}, 1.0, object(),
+                          10 ** 5000]:
                 with self.assertRaises(NoBits):
                     unpacked(n, thing)
 

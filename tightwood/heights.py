@@ -20,12 +20,16 @@ def check_height(height):
 
 
 class Heights:
-    """A balanced row that never changes, cut into stretches.
+    """A balanced row that never changes, cut into stretches by each kind in its own way.
 
-    Each kind cuts it in its own way, and keeps its length, a table with the height at the begin, the least and the
-    greatest one of each stretch, and how often each comes to its least: so what lies side by side is counted without a
-    walk.
+    The table has for each stretch the height at its begin, its least and its greatest one. Beside it is kept how often
+    each comes to its least: so what lies side by side is counted without a walk.
     """
+
+    def __init__(self, length, table, often_least):
+        self.length = length
+        self.kept_table = table
+        self.often_least = often_least
 
     def stretch(self, low, high):
         raise NotImplementedError("each kind tells the text from a place to ahead of another one")

@@ -3,14 +3,13 @@
 from tightwood.bits import Bits
 from tightwood.checks import check_from_nought, check_knot
 from tightwood.counts import Counts, begins_of
-from tightwood.woods import MARK_STEP, Wood, children_counted, counted_row, depths_of, look_at, thin_rest
+from tightwood.orders import Shortcuts
+from tightwood.woods import MARK_STEP, Wood, children_counted, counted_row, depths_of, level_order, look_at, thin_rest
 
 
-def level_row(elders, depths):
+def level_row(elders, order):
     many = children_counted(elders)
-    # Sorting keeps the order of opening within a depth, and that is the order within a level.
-    by_levels = sorted(range(len(elders)), key=lambda k: depths[k])
-    return counted_row(many[:1] + [many[k + 1] for k in by_levels])
+    return counted_row(many[:1] + [many[k + 1] for k in order])
 
 
 def widest_of(depths):
@@ -32,9 +31,12 @@ class Levelled(Wood):
     def __init__(self, elders):
         wood = look_at(elders)
         depths = depths_of(wood)
+        order = level_order(depths)
         self.knots = len(wood)
-        self.bits = Bits(level_row(wood, depths))
+        self.bits = Bits(level_row(wood, order))
         self.counts = Counts(self.bits)
+        # One goes there from a number by levels to that by opening.
+        self.places = Shortcuts(order)
         self.begins = begins_of(sorted(depths))
         self.level_count = max(depths, default=-1) + 1
         self.widest_level = widest_of(depths)
@@ -110,6 +112,14 @@ class Levelled(Wood):
         place = self.own_place(k)
         closing = self.counts.last_ahead(0, place)
         return place if closing is None else place - closing - 1
+
+    def own_number(self, k):
+        check_knot(k, self.knots)
+        return self.places.back(k)
+
+    def open_number(self, k):
+        check_knot(k, self.knots)
+        return self.places.there(k)
 
     def own_place(self, k):
         check_knot(k, self.knots)

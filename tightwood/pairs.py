@@ -3,7 +3,7 @@
 from tightwood.bits import Bits
 from tightwood.counts import Counts
 from tightwood.errors import NoRow
-from tightwood.heights import Heights
+from tightwood.heights import Heights, heights_of
 
 MOST_SIGNS = 8192
 STRETCH_BITS = 256
@@ -26,13 +26,13 @@ class Pairs(Heights):
 
     def __init__(self, text):
         check_row(text)
-        self.length = len(text)
         self.bits = Bits(text)
         self.counts = Counts(self.bits)
-        heights = [self.heights_within(low, high) for low, high in self.parts(0, self.length)]
-        begins = [self.height(number * STRETCH_BITS) for number in range(len(heights))]
-        self.kept_table = tuple([(begin, min(some), max(some)) for begin, some in zip(begins, heights)])
-        self.often_least = tuple([some.count(min(some)) for some in heights])
+        lows = list(range(0, len(text), STRETCH_BITS))
+        begins = [self.height(low) for low in lows]
+        heights = [heights_of(text[low:low + STRETCH_BITS], begin) for low, begin in zip(lows, begins)]
+        table = [(begin, min(some), max(some)) for begin, some in zip(begins, heights)]
+        Heights.__init__(self, len(text), tuple(table), [some.count(min(some)) for some in heights])
 
     def table(self):
         return self.kept_table

@@ -39,11 +39,10 @@ class PiecedRow(Heights):
         self.kept_pieces = pieces
         self.begins = running_sums([len(piece.signs) for piece in pieces])
         self.knots_ahead = running_sums([piece.kept_sums[0] for piece in pieces])
-        self.length = self.begins[-1]
         heights = [2 * knots - begin for knots, begin in zip(self.knots_ahead, self.begins)]
-        self.kept_table = [(height, height + piece.kept_sums[2], height + piece.greatest)
-                           for height, piece in zip(heights, pieces)]
-        self.often_least = [piece.often_least for piece in pieces]
+        table = [(height, height + piece.kept_sums[2], height + piece.greatest)
+                 for height, piece in zip(heights, pieces)]
+        Heights.__init__(self, self.begins[-1], table, [piece.often_least for piece in pieces])
 
     def stretch(self, low, high):
         first = self.stretch_at(low)

@@ -1,6 +1,6 @@
 """Plain woods, told by their elders, and what every kind of a wood answers."""
 
-from tightwood.checks import check_from_nought, is_whole
+from tightwood.checks import check_from_nought, check_knot, is_whole
 from tightwood.errors import NoRow, NoWood
 from tightwood.pairs import check_row
 
@@ -55,6 +55,11 @@ def depths_of(elders):
     for elder in elders:
         depths.append(0 if elder == -1 else depths[elder] + 1)
     return depths
+
+
+def level_order(depths):
+    """The knots by opening in their order by levels: within a depth that is the order of opening."""
+    return sorted(range(len(depths)), key=lambda k: depths[k])
 
 
 def children_counted(elders):
@@ -124,3 +129,13 @@ class Wood:
 
     def depth(self, k):
         raise NotImplementedError("each kind tells a knot's depth")
+
+    def own_number(self, k):
+        """Of a number by opening that of its own order; each kind tells it that does not number by opening."""
+        check_knot(k, self.many_knots())
+        return k
+
+    def open_number(self, k):
+        """The other way about."""
+        check_knot(k, self.many_knots())
+        return k
